@@ -1,0 +1,1 @@
+"""Planfirst: infrastructure planned, then applied."""
