@@ -299,8 +299,8 @@ class Misfits(Case):
         inner = ("size", ("say", None))
         for outer in (
             ("size", inner), ("pick", inner, ONE), ("pick", ("say", ()), inner), ("same", inner, ONE),
-            ("same", ONE, inner), ("join", (inner,)), ("tuple", (ONE, inner)), ("map", (("a", ONE), ("b", inner))), ("if", inner, ONE, TWO),
-            ("at", "web", "many", inner, "id"), ("at", "web", "gone", inner, "id"), ("size", ("size", ("size", inner))),
+            ("same", ONE, inner), ("join", (inner,)), ("tuple", (ONE, inner)), ("map", (("a", ONE), ("b", inner))),
+            ("if", inner, ONE, TWO), ("at", "web", "many", inner, "id"), ("at", "web", "gone", inner, "id"), ("size", ("size", ("size", inner))),
         ):
             self.misfits(outer, inner)
 
@@ -437,13 +437,14 @@ class Fresh(Case):
 # Expressions of all forms over p and q, of which no tuple can become a Tag.
 OVER = (
     P, ("tuple", (P, Q)), ("map", (("a", P), ("b", Q))), ("join", (P, ("say", "-"), Q)), ("if", P, Q, ONE),
-    ("if", P, ONE, Q), ("if", P, ONE, ("say", 1)), ("same", P, Q), ("same", ("tuple", (P, ONE)), ("tuple", (ONE, Q))), ("size", P),
-    ("size", ("tuple", (P, Q))), ("pick", P, Q), ("pick", ("tuple", (P, Q)), ONE), ("pick", ("tuple", (ONE, TWO)), P),
+    ("if", P, ONE, Q), ("if", P, ONE, ("say", 1)), ("same", P, Q), ("same", ("tuple", (P, ONE)), ("tuple", (ONE, Q))),
+    ("size", P), ("size", ("tuple", (P, Q))), ("pick", P, Q), ("pick", ("tuple", (P, Q)), ONE), ("pick", ("tuple", (ONE, TWO)), P),
     ("pick", ("map", (("a", P),)), Q), ("if", ("same", P, Q), P, Q), ("if", ("same", P, ONE), ("size", Q), ONE),
     ("join", (("if", P, Q, Q),)), ("size", ("join", (P, Q))), ("out", "sub", "x"), ("of", "net", "main", "x"),
     ("each", "net", "many", "x"), ("size", ("each", "net", "many", "x")), ("at", "net", "many", Q, "x"),
     ("at", "net", "keys", Q, "x"), ("at", "net", "open", Q, "x"), ("each", "net", "open", "x"),
-    ("of", "net", "open", "x"), ("pick", ("each", "net", "keys", "x"), Q), ("if", ("same", ("each", "net", "many", "x"), Q), P, P),
+    ("of", "net", "open", "x"), ("pick", ("each", "net", "keys", "x"), Q),
+    ("if", ("same", ("each", "net", "many", "x"), Q), P, P),
 )
 VALUES = (None, True, False, 0, 1, -1, "", "a", TAG, (), (1,), (1, 1), {"a": 1}, {"x": "a"})
 PLANNED = (*VALUES, U, (U,), (U, 1), {"a": U}, {"x": U})
