@@ -300,7 +300,8 @@ class Misfits(Case):
         for outer in (
             ("size", inner), ("pick", inner, ONE), ("pick", ("say", ()), inner), ("same", inner, ONE),
             ("same", ONE, inner), ("join", (inner,)), ("tuple", (ONE, inner)), ("map", (("a", ONE), ("b", inner))),
-            ("if", inner, ONE, TWO), ("at", "web", "many", inner, "id"), ("at", "web", "gone", inner, "id"), ("size", ("size", ("size", inner))),
+            ("if", inner, ONE, TWO), ("at", "web", "many", inner, "id"), ("at", "web", "gone", inner, "id"),
+            ("size", ("size", ("size", inner))),
         ):
             self.misfits(outer, inner)
 
@@ -438,7 +439,8 @@ class Fresh(Case):
 OVER = (
     P, ("tuple", (P, Q)), ("map", (("a", P), ("b", Q))), ("join", (P, ("say", "-"), Q)), ("if", P, Q, ONE),
     ("if", P, ONE, Q), ("if", P, ONE, ("say", 1)), ("same", P, Q), ("same", ("tuple", (P, ONE)), ("tuple", (ONE, Q))),
-    ("size", P), ("size", ("tuple", (P, Q))), ("pick", P, Q), ("pick", ("tuple", (P, Q)), ONE), ("pick", ("tuple", (ONE, TWO)), P),
+    ("size", P), ("size", ("tuple", (P, Q))), ("pick", P, Q), ("pick", ("tuple", (P, Q)), ONE),
+    ("pick", ("tuple", (ONE, TWO)), P),
     ("pick", ("map", (("a", P),)), Q), ("if", ("same", P, Q), P, Q), ("if", ("same", P, ONE), ("size", Q), ONE),
     ("join", (("if", P, Q, Q),)), ("size", ("join", (P, Q))), ("out", "sub", "x"), ("of", "net", "main", "x"),
     ("each", "net", "many", "x"), ("size", ("each", "net", "many", "x")), ("at", "net", "many", Q, "x"),
