@@ -61,10 +61,11 @@ def fresh(value):
 def facing(one, other):
     """Return the pairs of parts that are held against each other.
 
-    None if these are neither tuples of one length nor maps with the same keys.
+    None if these are neither tuples of one length nor maps with the same keys, or only one is a Tag.
     """
     if isinstance(one, tuple) and isinstance(other, tuple) and len(one) == len(other):
-        return list(zip(one, other))
+        # Part by part a tuple with an Unknown could come to a Tag, but it never stands for one.
+        return list(zip(one, other)) if is_tag(one) == is_tag(other) else None
     if isinstance(one, dict) and isinstance(other, dict) and len(one) == len(other):
         if all([key in other for key in one]):
             return [(one[key], other[key]) for key in one]
@@ -75,9 +76,6 @@ def agrees(planned, value):
     """Whether the known value is one for which the planned one stands."""
     if isinstance(planned, Unknown):
         return True
-    # Part by part a tuple with an Unknown could come to a Tag, but it never stands for one.
-    if is_tag(value) and not is_tag(planned):
-        return False
     pairs = facing(planned, value)
     if pairs is None:
         return equal(planned, value)

@@ -229,6 +229,15 @@ class Choices(Case):
         one, other = ("param", "first"), ("param", "second")
         self.misfits(("if", unknown, one, other), one)
 
+    def test_if_unknown_of_a_tag_and_a_tuple_that_could_become_it(self):
+        unknown = ("param", "u")
+        could_be_tag = ("tuple", (("say", "#"), ("say", "net"), unknown))
+        for one, other in itertools.product((could_be_tag, ("say", TAG)), (could_be_tag, ("say", TAG))):
+            value = TAG if one == other == ("say", TAG) else U
+            self.comes_to(("if", unknown, one, other), value)
+            self.comes_to(("if", ("same", one, unknown), one, other), value)
+        self.comes_to(("if", ("same", could_be_tag, ("say", TAG)), ONE, TWO), 2)
+
     def test_if_of_another_sort(self):
         for value in all_but("bool"):
             self.misfits(("if", ("say", value), ONE, TWO))
@@ -246,7 +255,10 @@ class Choices(Case):
         self.comes_to(("same", ("param", "t"), ("say", (2, 2))), False)
         self.comes_to(("same", ("param", "t"), ("say", (1,))), False)
         self.comes_to(("same", ("of", "net", "main", "id"), ("say", TAG)), True)
-        self.comes_to(("same", ("tuple", (("say", "#"), ("say", "net"), unknown)), ("say", TAG)), U)
+        could_be_tag = ("tuple", (("say", "#"), ("say", "net"), unknown))
+        self.comes_to(("same", could_be_tag, ("say", TAG)), False)
+        self.comes_to(("same", ("say", TAG), could_be_tag), False)
+        self.comes_to(("same", could_be_tag, ("tuple", (("say", "#"), unknown, ONE))), U)
 
 
 class Items(Case):

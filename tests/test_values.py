@@ -45,6 +45,21 @@ def fillings(value, pool, as_tag=True):
         yield value
 
 
+def filled_forms(value, pool):
+    """The forms of all that comes of it; in them a Tag is unlike a tuple that was filled with its parts."""
+    if isinstance(value, Unknown):
+        return [found for known in pool for found in filled_forms(known, pool)]
+    if is_tag(value):
+        return [("tag", value)]
+    if isinstance(value, tuple):
+        parts = [filled_forms(part, pool) for part in value]
+        return [("tuple", *filled) for filled in itertools.product(*parts)]
+    if isinstance(value, dict):
+        parts = [[(key, found) for found in filled_forms(value[key], pool)] for key in sorted(value)]
+        return [("map", *filled) for filled in itertools.product(*parts)]
+    return [form(value)]
+
+
 def all_parts(value):
     """The value, its parts, theirs, and so on."""
     parts = value if isinstance(value, tuple) else value.values() if isinstance(value, dict) else ()
@@ -60,10 +75,11 @@ PATTERNS = (
     {"a": ("#", "net", U)}, {"a": {"a": U}},
 )
 
-# What is put for their Unknowns: the parts that some pattern has there, and a filling of each pattern.
+# What is put for their Unknowns: the parts that some pattern has there, and a filling of each pattern (with 0, by
+# which none becomes a Tag).
 POOL = (
-    "#", "net", "web", 2, *[value for value in PATTERNS if is_known(value)],
-    *[next(fillings(value, (1,))) for value in PATTERNS if not is_known(value)],
+    "#", "net", "web", 0, 2, *[value for value in PATTERNS if is_known(value)],
+    *[next(fillings(value, (0,))) for value in PATTERNS if not is_known(value)],
 )
 
 
@@ -224,15 +240,26 @@ class Same(unittest.TestCase):
         self.assertIs(same((U,), 1), False)
         self.assertIs(same({"a": U}, None), False)
 
-    def test_part_by_part_also_where_a_tag_would_come(self):
-        self.assertEqual(same(("#", "net", U), TAG), Unknown())
-        self.assertEqual(same(TAG, ("#", "net", U)), Unknown())
-        self.assertEqual(same(("#", "net", U), ("#", U, 1)), Unknown())
-        self.assertEqual(same((U, U, U), TAG), Unknown())
-        self.assertIs(same(("#", "web", U), TAG), False)
+    def test_a_tag_and_a_tuple_that_would_come_to_it(self):
+        for thing in (("#", "net", U), ("#", U, 1), (U, "net", 1), (U, U, U), ("#", "web", U), ("#", "net", 0)):
+            for one, other in ((thing, TAG), ((1, thing), (1, TAG)), ((U, thing), (1, TAG)), ({"a": thing}, {"a": TAG}),
+                               (({"a": (thing,)},), ({"a": (TAG,)},))):
+                self.assertIs(same(one, other), False)
+                self.assertIs(same(other, one), False)
+
+    def test_two_tuples_part_by_part_also_where_a_tag_would_come(self):
+        for one, other in (
+            (("#", "net", U), ("#", U, 1)), (("#", "net", U), ("#", "net", U)), ((U, U, U), ("#", "net", U)),
+            (("#", "net", U), ("#", "net", 0)), ((U, 1), (TAG, 1)), (U, TAG), (U, ("#", "net", U)),
+        ):
+            self.assertEqual(same(one, other), Unknown())
+            self.assertEqual(same(other, one), Unknown())
+        self.assertIs(same(("#", "web", U), ("#", "net", U)), False)
+        self.assertIs(same(("#", "net", U), ("#", "net", 1, U)), False)
+        self.assertIs(same(TAG, TAG), True)
 
     def test_as_all_fillings_tell(self):
-        filled = [(pattern, {form(value) for value in fillings(pattern, POOL)}) for pattern in PATTERNS]
+        filled = [(pattern, set(filled_forms(pattern, POOL))) for pattern in PATTERNS]
         for (one, left), (other, right) in itertools.product(filled, filled):
             with self.subTest(one=one, other=other):
                 both = is_known(one) and is_known(other)
