@@ -23,14 +23,15 @@ def is_formed(thing):
         return isinstance(thing[1], tuple)
     if word == "map":
         return isinstance(thing[1], tuple) and all([_is_entry(item) for item in thing[1]])
-    return all([isinstance(name, str) for name in _names_in(thing)])
+    return all([isinstance(name, str) for name in names_in(thing)])
 
 
 def _is_entry(thing):
     return isinstance(thing, tuple) and len(thing) == 2 and isinstance(thing[0], str)
 
 
-def _names_in(expression):
+def names_in(expression):
+    """Return the names of what this expression itself refers to."""
     word = expression[0]
     if word in ("param", "own", "out", "of", "each"):
         return list(expression[1:])

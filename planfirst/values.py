@@ -25,6 +25,11 @@ def is_name(thing):
     return all(["a" <= letter <= "z" for letter in thing])
 
 
+def are_unlike(names):
+    """Whether no name (or tuple of names) comes twice."""
+    return len(set(names)) == len(names)
+
+
 def is_tag(thing):
     """Whether it is a Tag, which is no tuple of values although Python has it as a tuple."""
     if not isinstance(thing, tuple) or len(thing) != 3:
@@ -36,6 +41,17 @@ def is_tag(thing):
 def is_tuple(thing):
     """Whether it is a tuple of values, perhaps with Unknowns inside."""
     return isinstance(thing, tuple) and not is_tag(thing)
+
+
+def is_value(thing):
+    """Whether it is a known value."""
+    if thing is None or isinstance(thing, (bool, int, str)):
+        return True
+    if isinstance(thing, tuple):
+        return all([is_value(part) for part in thing])
+    if isinstance(thing, dict):
+        return all([isinstance(key, str) and is_value(thing[key]) for key in thing])
+    return False
 
 
 def is_known(value):

@@ -117,6 +117,17 @@ class Equality(unittest.TestCase):
                 self.assertNotEqual(Misfit(one), Misfit(other))
                 self.assertEqual(Misfit(one), Misfit(one))
 
+    def test_expressions_201_within_one_another(self):
+        def nested(leaf):
+            expression = ("say", leaf)
+            for _ in range(200):
+                expression = ("map", (("a", expression),))
+            return expression
+
+        for one in (1, True, Unknown()):
+            for other in (1, True, Unknown()):
+                self.assertIs(Misfit(nested(one)) == Misfit(nested(other)), type(one) is type(other))
+
     def test_order_of_keys_and_unknowns(self):
         self.assertEqual(Misfit({"a": 1, "b": 2}), Misfit({"b": 2, "a": 1}))
         self.assertEqual(Misfit(("say", Unknown())), Misfit(("say", Unknown())))
