@@ -5,7 +5,7 @@ from planfirst.kinds import Kind, attribute_names, given_names
 
 REFERRING = ("param", "own", "out", "of", "at", "each")
 READING_ATTRIBUTES = ("ids", "size")
-OWN_WORDS = {"count": ("index",), "keys": ("key", "value")}
+OWN_WORDS_BY_MANY = {"count": ("index",), "keys": ("key", "value")}
 
 
 def references_in(expression):
@@ -57,7 +57,7 @@ def _problem_of_block(block, scope, kinds):
 
 def _is_block_there(block, scope, kinds):
     """Whether all is there to which the block refers."""
-    own = () if block.many is None else OWN_WORDS[block.many[0]]
+    own = () if block.many is None else OWN_WORDS_BY_MANY[block.many[0]]
     expressions = [block.attributes[name] for name in block.attributes]
     if block.ahead is not None:
         expressions.append(block.ahead)
