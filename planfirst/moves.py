@@ -79,7 +79,8 @@ def _moves_in(found):
     goals = {}
     for scope in found:
         for move in scope.config.moves:
-            goals[(scope.path, *move.old)] = (scope.path, *move.new)
+            old = (scope.path, *move.old)
+            goals[old] = (scope.path, *move.new)
     return goals
 
 

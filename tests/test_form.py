@@ -186,6 +186,11 @@ class Form(unittest.TestCase):
                 if is_bound(node):
                     self.assertNotIn(node.attr, methods, (path, node.lineno))
 
+    def test_no_star_in_an_index(self):
+        for path, tree in TREES.items():
+            for node in of_sort(tree, ast.Subscript):
+                self.assertEqual(of_sort(node.slice, ast.Starred), [], (path, node.lineno))
+
     def test_texts(self):
         for path, tree in TREES.items():
             for node in of_sort(tree, ast.Constant):
