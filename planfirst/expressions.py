@@ -1,6 +1,7 @@
 """Expressions, and the values to which they come."""
 
-from planfirst.errors import Misfit
+from planfirst.errors import Misfit, NotGeneric
+from planfirst.touched import Touched, joined
 from planfirst.values import Unknown, fresh, is_integer, is_tuple, same
 
 # How many items an expression with this word has, the word among them.
@@ -99,11 +100,11 @@ def _map(expression, parts, names):
 
 def _join(expression, parts, names):
     for part in parts:
-        if not (isinstance(part, (str, Unknown)) or is_integer(part)):
+        if not (isinstance(part, (str, Touched, Unknown)) or is_integer(part)):
             raise Misfit(expression)
     if any([isinstance(part, Unknown) for part in parts]):
         return Unknown()
-    return "".join([str(part) for part in parts])
+    return joined(parts)
 
 
 def _same(expression, parts, names):
@@ -114,6 +115,8 @@ def _size(expression, parts, names):
     thing = parts[0]
     if isinstance(thing, Unknown):
         return Unknown()
+    if isinstance(thing, Touched):
+        raise NotGeneric(None)
     if is_tuple(thing) or isinstance(thing, (dict, str)):
         return len(thing)
     raise Misfit(expression)
@@ -149,12 +152,21 @@ def _picked(expression, thing, place):
     return thing[place]
 
 
+def _has_touched(table, text):
+    """Whether the map has a touched text among its keys: it has not, but for the texts by which it is one."""
+    for key in table:
+        text.meet(key)
+    return False
+
+
 def _can_have(thing, place):
     """Whether the thing, as far as it is known, can have an item at this index or key."""
     if not (is_tuple(thing) or isinstance(thing, (dict, Unknown))):
         return False
     if isinstance(place, Unknown):
         return True
+    if isinstance(place, Touched):
+        return isinstance(thing, Unknown) or isinstance(thing, dict) and _has_touched(thing, place)
     if isinstance(place, str):
         return isinstance(thing, Unknown) or isinstance(thing, dict) and place in thing
     if not is_integer(place) or place < 0:

@@ -2,6 +2,7 @@
 
 from planfirst.equality import Valued
 from planfirst.errors import NoKind
+from planfirst.touched import Touched, joined
 from planfirst.values import are_unlike, is_integer, is_name
 
 SORTS = ("wanted", "open", "filled")
@@ -37,8 +38,8 @@ def attribute_names(kind):
 
 def surrounded(rule, value):
     """Return what an attribute with this rule "around" is, if this is the value of the given one."""
-    middle = str(value) if isinstance(value, str) or is_integer(value) else ""
-    return rule[2] + middle + rule[3]
+    middle = value if isinstance(value, (str, Touched)) or is_integer(value) else ""
+    return joined([rule[2], middle, rule[3]])
 
 
 def _wrong_part(name, given, made, single, holds):

@@ -11,7 +11,7 @@ def needs(config, kinds):
     problem = first_problem(found, kinds)
     if problem is not None:
         raise BadConfig(problem[0], problem[1])
-    ways = _ways(found)
+    ways = ways_between(found)
     at = _least_on_a_ring(ways)
     if at is not None:
         raise BadConfig(at, "ring")
@@ -26,25 +26,50 @@ def _is_address(node):
     return len(node) == 3
 
 
-def _ways(found):
+def ways_between(found):
     """Return a dict from all nodes to lists of the nodes to which they refer by themselves."""
-    addresses = [at for scope in found for at in _addresses_in(scope)]
     ways = {}
-    # What blocks and readings refer to by the calls in which they stand, by the paths of these.
+    after = named_by_after(found)
+    for scope in found:
+        if scope.outer is not None:
+            _put_call(ways, scope)
+        for block in scope.config.blocks:
+            at = (scope.path, block.kind, block.name)
+            ways[at] = _named_by_block(block, scope) + after[at]
+        for reading in scope.config.readings:
+            at = (scope.path, reading.kind, reading.name)
+            ways[at] = _named([reading.question[name] for name in reading.question], scope) + after[at]
+    return ways
+
+
+def named_by_after(found):
+    """Return a dict from the addresses of all blocks and readings to those that after names.
+
+    This is their own after, and that of the calls in which they stand.
+    """
+    addresses = [at for scope in found for at in _addresses_in(scope)]
+    after = {}
+    # What the calls around a scope name, by its path.
     around = {(): []}
     for scope in found:
         if scope.outer is not None:
-            after = _behind(scope.call.after, scope.outer, addresses)
-            around[scope.path] = around[scope.outer.path] + after
-            _put_call(ways, scope)
-        for block in scope.config.blocks:
-            named = _named_by_block(block, scope) + _behind(block.after, scope, addresses)
-            ways[(scope.path, block.kind, block.name)] = named + around[scope.path]
-        for reading in scope.config.readings:
-            expressions = [reading.question[name] for name in reading.question]
-            named = _named(expressions, scope) + _behind(reading.after, scope, addresses)
-            ways[(scope.path, reading.kind, reading.name)] = named + around[scope.path]
-    return ways
+            named = _behind(scope.call.after, scope.outer, addresses)
+            around[scope.path] = around[scope.outer.path] + named
+        for one in (*scope.config.blocks, *scope.config.readings):
+            after[(scope.path, one.kind, one.name)] = _behind(one.after, scope, addresses) + around[scope.path]
+    return after
+
+
+def named_directly(expression, scope, ways):
+    """Return the addresses of the blocks and readings to which an expression in this scope refers directly."""
+    found = {}
+    for node in _named([expression], scope):
+        if _is_address(node):
+            found[node] = True
+            continue
+        for at in _next_addresses(node, ways):
+            found[at] = True
+    return sorted(found)
 
 
 def _addresses_in(scope):

@@ -9,14 +9,14 @@ OWN_WORDS_BY_MANY = {"count": ("index",), "keys": ("key", "value")}
 
 
 def references_in(expression):
-    """Return the expressions in this one (itself too) that refer to something by themselves."""
+    """Return the expressions in this one (itself too) that refer to something by themselves, from left to right."""
     found = []
     waiting = [expression]
     while waiting:
         one = waiting.pop()
         if one[0] in REFERRING:
             found.append(one)
-        waiting.extend(parts_of(one))
+        waiting.extend(parts_of(one)[::-1])
     return found
 
 

@@ -1,6 +1,7 @@
 """Values, and what stands for values that are not known yet."""
 
 from planfirst.equality import equal
+from planfirst.touched import Touched, become, meet
 
 
 class Unknown:
@@ -111,7 +112,13 @@ def _can_be_same(one, other):
     # Each Unknown is taken by itself, so the parts can be held against each other one by one.
     if isinstance(one, Unknown) or isinstance(other, Unknown):
         return True
+    if isinstance(one, Touched) or isinstance(other, Touched):
+        meet(one, other)
+        return False
     pairs = facing(one, other)
-    if pairs is None:
-        return equal(one, other)
-    return all([_can_be_same(a, b) for a, b in pairs])
+    if pairs is not None:
+        # All pairs, also behind one that can't be the same: touched texts are told wherever they meet.
+        return all([_can_be_same(a, b) for a, b in pairs])
+    if isinstance(one, tuple) and isinstance(other, tuple):
+        become(one, other)
+    return equal(one, other)
