@@ -92,8 +92,8 @@ class Applying:
             self._depose(at)
         kind = self._plan.kinds[at[1]]
         kept = self._world.things()[tag][1]
-        chosen = [row[0] for row in kind.given if row[1] == "filled" and wanted[row[0]] is None]
-        self._put(at, tag, {**kept, **wanted, **{name: kept[name] for name in chosen}}, way == "behind")
+        given = {row[0]: wanted[row[0]] for row in kind.given if row[1] != "filled" or wanted[row[0]] is not None}
+        self._put(at, tag, {**kept, **given}, way == "behind")
         if way == "behind":
             return "failed"
         self._had[at] = True
@@ -115,7 +115,8 @@ class Applying:
                 self._world.change(old.tag, others)
             except (Gone, Taken):
                 return "failed"
-            self._put(at, old.tag, {**self._world.things()[old.tag][1], **wanted}, False)
+            kept = self._world.things()[old.tag][1]
+            self._put(at, old.tag, {**kept, **wanted}, False)
         self._had[at] = True
         return "done" if others else "nothing"
 

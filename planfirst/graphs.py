@@ -50,7 +50,7 @@ def longest_way(behind, found):
         for number in level:
             heights[number] += max([heights[other] for other in behind[number]], default=0)
     way = []
-    steps_on = range(len(behind))
+    steps_on = list(range(len(behind)))
     for height in range(len(found), 0, -1):
         number = min([other for other in steps_on if heights[other] == height])
         way.append(number)

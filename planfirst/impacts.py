@@ -20,7 +20,8 @@ def impact(config, values, kinds, state, world, param):
         if deeds != others:
             texts_by_deeds.setdefault(deeds, []).append(met)
     rows = [(tuple(texts_by_deeds[deeds]), deeds) for deeds in texts_by_deeds]
-    return (*sorted(rows, key=lambda row: row[0]), (None, others))
+    rows = sorted(rows, key=lambda row: row[0])
+    return tuple(rows + [(None, others)])
 
 
 def _deeds(config, values, kinds, state, world):

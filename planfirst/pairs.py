@@ -12,7 +12,7 @@ def picture(state, world):
     for value in [*rows, *kept, state.outputs]:
         for number in _numbers_in(value):
             numbers[number] = True
-    places = {number: place for place, number in enumerate(sorted(numbers), 1)}
+    places = {number: place for place, number in enumerate(sorted(numbers), start=1)}
     return (
         {at: _known_by(state.objects[at], places) for at in state.objects},
         {at: _known_by(state.deposed[at], places) for at in state.deposed},

@@ -135,7 +135,8 @@ class Planning:
         if prior is not None:
             unsure = unsure_names(kind, wanted, prior)
             reasons.extend([("forced", row[0]) for row in kind.given if row[2] and row[0] in unsure])
-        for what in {what: True for what in block.replaced_by}:
+        named = {what: True for what in block.replaced_by}
+        for what in named:
             if instances_by_which(what, at[0], self.deeds, self.planned, self._base.objects):
                 reasons.append(("by", what))
         return tuple(reasons)
