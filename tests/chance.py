@@ -3,9 +3,8 @@
 import random
 
 from planfirst.configs import Block, Call, Config, Reading
-from planfirst.errors import PlanError
-from planfirst.states import Object, State
-from stand import KINDS, Stand, say
+from planfirst.states import State
+from stand import Stand, say
 
 
 class Chance:
@@ -24,17 +23,21 @@ class Chance:
 class Nets(Chance):
     """Blocks of the kind net alone, for orders: who refers to whom is by chance."""
 
-    def config(self, names, version, first=0.3, replacing=0.2):
+    # How often a block is replaced along with another one, and refers to others.
+    replacing = 0.2
+    referring = 0.5
+
+    def config(self, names, version):
         found = []
         for place, name in enumerate(names):
             others = self.some(names[:place], 3)
             text = say(self.random.choice((1, version)))
-            f = ("tuple", tuple(self.value(other, found) for other in others)) if self.often(0.5) else text
+            f = ("tuple", tuple(self.value(other, found) for other in others)) if self.often(self.referring) else text
             a = ("tuple", tuple(self.value(other, found) for other in others))
-            by = tuple(("net", one) for one in self.some(names[:place], 1)) if self.often(replacing) else ()
+            by = tuple(("net", one) for one in self.some(names[:place], 1)) if self.often(self.replacing) else ()
             many = self.random.choice((None, None, None, ("count", say(self.random.randint(0, 2)))))
             after = tuple(("net", one) for one in self.some(names[:place], 1))
-            found.append(Block("net", name, {"f": f, "a": a}, many=many, first=self.often(first), replaced_by=by,
+            found.append(Block("net", name, {"f": f, "a": a}, many=many, first=self.often(0.3), replaced_by=by,
                                after=after))
         return Config(blocks=tuple(found))
 
@@ -66,3 +69,69 @@ class Nets(Chance):
             if self.often(0.15):
                 deposed[(address, self.random.randint(1, 2))] = objects.pop(address)
         stand.state = State(objects, deposed, stand.state.outputs, stand.state.serial)
+
+
+TEXTS = ("", "a", "b", "ab", "ba", "aa", "aab", "abab", "1", "a1")
+
+
+class Texts(Chance):
+    """Configurations whose values depend on a text p, in each way that there is."""
+
+    def text(self, depth, others=()):
+        """An expression that mostly comes to a text."""
+        way = self.random.randrange(8 if depth else 3)
+        if way == 0:
+            return say(self.random.choice(TEXTS))
+        if way in (1, 2):
+            return ("param", "p")
+        if way == 3:
+            return ("join", tuple(self.text(depth - 1, others) for _ in range(self.random.randint(1, 3))))
+        if way == 4:
+            return ("if", self.truth(depth - 1, others), self.text(depth - 1, others), self.text(depth - 1, others))
+        if way == 5:
+            return ("pick", self.table(depth - 1, others), self.text(depth - 1, others))
+        if way == 6 and others:
+            return self.random.choice(others)
+        if way == 7 and self.often(0.4):
+            return self.random.choice((("out", "c", "o"), say(1), say(None), ("size", self.text(depth - 1, others))))
+        return ("if", self.truth(depth - 1, others), say(self.random.choice(TEXTS)), say(self.random.choice(TEXTS)))
+
+    def table(self, depth, others):
+        keys = self.random.sample(TEXTS, self.random.randint(1, 3))
+        return ("map", tuple((key, self.text(depth, others)) for key in keys))
+
+    def truth(self, depth, others):
+        if depth <= 0 or self.often(0.5):
+            return ("same", self.text(max(depth, 0), others), say(self.random.choice(TEXTS)))
+        if self.often(0.3):
+            return ("same", ("tuple", (self.text(depth - 1, others), say(1))), say((self.random.choice(TEXTS), 1)))
+        if self.often(0.3):
+            return ("same", ("map", (("k", self.text(depth - 1, others)),)), say({"k": self.random.choice(TEXTS)}))
+        if others and self.often(0.5):
+            return ("same", self.random.choice(others), say(self.random.choice(TEXTS)))
+        return say(self.often(0.5))
+
+    def config(self):
+        """Some blocks, a call, perhaps a reading; ("of", "net", "x", "id") may be unknown."""
+        found = []
+        others = []
+        for name in self.some("xyz") or ["x"]:
+            f = self.text(2, others) if self.often(0.6) else say(self.random.choice(TEXTS))
+            a = self.text(2, others)
+            ahead = ("if", self.truth(1, others), say(True), say(False)) if self.often(0.1) else None
+            by = (("net", found[0].name),) if found and self.often(0.2) else ()
+            found.append(Block("net", name, {"f": f, "a": a}, ahead=ahead, replaced_by=by))
+            others += [("of", "net", name, one) for one in ("f", "a", "id", "round", "mark")]
+        many = self.random.choice((None, ("count", ("if", self.truth(1, others), say(1), say(2))),
+                                   ("keys", ("tuple", (say("a"), self.text(1, others)))),
+                                   ("keys", ("map", (("a", self.text(1, others)), ("b", say(1)))))))
+        own = ("own", "value") if many is not None and many[0] == "keys" else self.text(2, others)
+        found.append(Block("net", "many", {"a": own}, many=many))
+        inner = Config(params=("q",), blocks=(Block("net", "in", {"a": ("param", "q")}),),
+                       outputs=(("o", ("param", "q")),))
+        calls = (Call("c", inner, {"q": self.text(1) if self.often(0.7) else say("a")}),)
+        readings = (Reading("net", "r", {"a": self.text(1, others)}),) if self.often(0.4) else ()
+        if readings:
+            found.append(Block("net", "seen", {"a": ("of", "net", "r", "size")}))
+        outputs = (("o", self.text(2, others)),) if self.often(0.3) else ()
+        return Config(params=("p",), blocks=tuple(found), calls=calls, readings=readings, outputs=outputs)
