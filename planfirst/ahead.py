@@ -11,7 +11,6 @@ class Ahead:
     """The steps of a plan, sorted, and the rules by which one must go ahead of another; steps by their numbers."""
 
     def __init__(self, plan):
-        self._deeds = plan.deeds
         self._base = plan.base
         self._outline = plan.outline
         self.steps = steps_of(plan.deeds)
@@ -28,7 +27,7 @@ class Ahead:
 
     def behind(self, first):
         """Return for each step, sorted, those that must go behind it by a rule itself; first: the first blocks."""
-        rows = [{number: True for number in row} for row in self._fixed]
+        rows = [{later: True for later in row} for row in self._fixed]
         for number, step in enumerate(self.steps):
             if step[0] in ("make", "change") and step[1] in self._base.objects:
                 for one, other in self._pairs_by_first(number, step, first):

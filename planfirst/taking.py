@@ -1,5 +1,7 @@
 """What a plan takes: everything, or what its targets tell."""
 
+from planfirst.addresses import instance_of
+
 
 class Taking:
     """The blocks and readings that a plan takes, whole or some instances of them alone."""
@@ -46,7 +48,8 @@ def _taking(targets, outline, state, with_needs):
 def _addresses_in(state):
     """Return a dict of the addresses of all instances and blocks of which the state has something."""
     found = {}
-    for at in [*state.objects, *[at for at, _ in state.deposed]]:
-        found[at] = True
-        found[at[:3]] = True
+    for at in [*state.objects, *state.deposed]:
+        instance = instance_of(at)
+        found[instance] = True
+        found[instance[:3]] = True
     return found

@@ -135,3 +135,88 @@ class Texts(Chance):
             found.append(Block("net", "seen", {"a": ("of", "net", "r", "size")}))
         outputs = (("o", self.text(2, others)),) if self.often(0.3) else ()
         return Config(params=("p",), blocks=tuple(found), calls=calls, readings=readings, outputs=outputs)
+
+
+class Things(Chance):
+    """Blocks of several kinds, with all that a block can tell, readings and calls."""
+
+    def value(self, others, own=()):
+        way = self.random.randrange(7)
+        if way == 0 or not others and not own:
+            return say(self.random.choice((None, 0, 1, True, "A", "a", "t")))
+        if way == 1 and own:
+            return self.random.choice(own)
+        if way == 2:
+            return ("tuple", (self.value(others, own), say(1)))
+        if way == 3:
+            return ("if", ("same", self.value(others, own), self.value(others, own)), self.value(others, own),
+                    self.value(others, own))
+        if way == 4:
+            return ("map", (("k", self.value(others, own)),))
+        return self.random.choice([*others, *own])
+
+    def many(self, others):
+        way = self.random.randrange(6)
+        if way == 0:
+            return ("count", say(self.random.randint(0, 2)))
+        if way == 1:
+            return ("keys", say(tuple(self.some(("b", "a", "c"), 2))))
+        if way == 2:
+            return ("keys", ("map", (("k", self.value(others)),)))
+        return None
+
+    def block(self, name, found, others):
+        kind = self.random.choice(("net", "net", "hold", "read"))
+        many = self.many(others)
+        own = {None: (), "count": (("own", "index"),), "keys": (("own", "key"), ("own", "value"))}[many and many[0]]
+        names = {"net": ("f", "a", "c"), "hold": ("name", "of"), "read": ("x", "y", "c")}[kind]
+        attributes = {one: self.value(others, own) for one in self.some(names)}
+        by = [(one.kind, one.name) for one in found] + [(one.kind, one.name, "id") for one in found]
+        ahead = None
+        if self.often(0.15):
+            ahead = ("if", ("same", self.value(others, own), say("z")), say(False), say(True))
+        return Block(kind, name, attributes, many=many, after=tuple(self.some([one[:2] for one in by], 1)),
+                     first=self.often(0.25), ignored=tuple(self.some(names, 1)) if self.often(0.2) else (),
+                     replaced_by=tuple(self.some(by, 1)), ahead=ahead)
+
+    def references(self, block):
+        made = {"net": ("f", "a", "c", "id", "mark", "round"), "hold": ("name", "of", "id"),
+                "read": ("x", "y", "c", "id", "mark")}[block.kind]
+        word = "of" if block.many is None else "each"
+        return [(word, block.kind, block.name, one) for one in made]
+
+    def some_blocks(self, names, others):
+        found = []
+        for name in names:
+            found.append(self.block(name, found, others))
+            others = others + self.references(found[-1])
+        return found, others
+
+    def config(self, names="vwxyz"):
+        found, others = self.some_blocks(self.some(names), [])
+        inner, inside = self.some_blocks(self.some("pq"), [("param", "p")])
+        call = Call("c", Config(params=("p",), blocks=tuple(inner), outputs=(("o", self.value(inside)),)),
+                    {"p": self.value(others)})
+        outputs = (("o", self.value([*others, ("out", "c", "o")])), ("p", say(1)))
+        readings = ()
+        if self.often(0.3):
+            # A name that is written behind all others, so that its question may refer to them all.
+            after = tuple(self.some([(one.kind, one.name) for one in found], 1))
+            readings = (Reading("hold", "zz", {"of": self.value(others)}, after=after),)
+        return Config(blocks=tuple(found), calls=(call,), outputs=outputs, readings=readings)
+
+    def near(self, config):
+        """The configuration with some attributes told otherwise."""
+        found = [self.block_near(one) for one in config.blocks]
+        call = config.calls[0]
+        inner = [self.block_near(one) for one in call.config.blocks]
+        call = Call("c", Config(params=("p",), blocks=tuple(inner), outputs=call.config.outputs), call.arguments)
+        return Config(blocks=tuple(found), calls=(call,), outputs=config.outputs, readings=config.readings)
+
+    def block_near(self, block):
+        attributes = dict(block.attributes)
+        for name in attributes:
+            if self.often(0.3):
+                attributes[name] = say(self.random.choice((None, 0, 1, True, "A", "a", "t")))
+        return Block(block.kind, block.name, attributes, many=block.many, after=block.after, first=block.first,
+                     ignored=block.ignored, replaced_by=block.replaced_by, ahead=block.ahead)

@@ -1,0 +1,133 @@
+"""Point 0.2, and what plans and applies promise together, by chance."""
+
+import unittest
+
+from chance import Things
+from planfirst.errors import PlanError
+from planfirst.layout import needs
+from planfirst.orders import ring, steps
+from planfirst.plans import is_empty
+from planfirst.values import agrees, is_known
+from stand import Case, Stand
+
+WORDS = ("make", "change", "destroy", "read")
+
+
+class Whole(Case):
+    def plans(self, number, seeds):
+        """Stands with plans by chance: each behind some applies, some of which fail or are broken off."""
+        for seed in seeds:
+            chance = Things(seed)
+            stand = Stand()
+            config = chance.config()
+            for _ in range(number):
+                config = chance.near(config) if chance.often(0.8) else chance.config()
+                try:
+                    found = stand.plan(config, replace=tuple(chance.some(stand.state.objects, 1)))
+                except PlanError:
+                    continue
+                if ring(found) is not None:
+                    continue
+                yield chance, stand, found
+                self.go_on(chance, stand, found)
+
+    def go_on(self, chance, stand, found):
+        told = steps(found)
+        fails = {step: "before" for step in chance.some(told, 1)} if chance.often(0.4) else {}
+        if fails and chance.often(0.5):
+            fails = {step: "behind" if step[0] == "make" else "before" for step in fails}
+        stand.do(found, fails=fails, until=chance.random.choice((None, None, len(told) // 2)))
+        if chance.often(0.3) and stand.state.objects:
+            address = chance.random.choice(list(stand.state.objects))
+            kind = {"net": "a", "hold": "of", "read": "y"}[address[1]]
+            stand.world.alter(stand.state.objects[address].tag, kind, chance.random.choice((None, 1, "u")))
+
+    def test_what_is_known_is_what_comes(self):
+        many = {word: 0 for word in (*WORDS, "nothing", "failed", "left")}
+        for chance, stand, found in self.plans(4, range(300)):
+            one = stand.copy()
+            ends = one.do(found)
+            self.assertEqual(set(ends), set(steps(found)))
+            for step, end in ends.items():
+                many[end if end != "done" else step[0]] += 1
+                self.assertIn(end, ("done", "nothing", "failed", "left"))
+                self.assertTrue(end != "nothing" or step[0] == "change")
+            for address, planned in found.planned.items():
+                words = {"replace": ("make", "destroy"), None: ()}.get(found.deeds.get(address),
+                                                                       (found.deeds.get(address),))
+                if len(address) == 4 and all(ends[(word, address)] in ("done", "nothing") for word in words):
+                    self.held(one, planned, address, words)
+            if set(ends.values()) <= {"done", "nothing"}:
+                self.stands(one, found)
+        self.assertGreater(many.pop("nothing"), 2)
+        self.assertTrue(all(number > 15 for number in many.values()), many)
+
+    def held(self, stand, planned, address, words):
+        thing = stand.state.objects[address]
+        self.assertEqual(set(planned), set(thing.attributes))
+        for name in planned:
+            self.assertTrue(agrees(planned[name], thing.attributes[name]), (address, name))
+        self.assertTrue(is_known(thing.attributes))
+        if words:
+            kept = stand.world.things()[thing.tag][1]
+            self.assertEqual((kept["id"], set(kept)), (thing.tag, set(planned)))
+
+    def stands(self, stand, found):
+        """Whether just what is wanted stands, in the state and in the world."""
+        wanted = {address for address in found.planned if len(address) == 4}
+        self.assertEqual(set(stand.state.objects), wanted)
+        self.assertEqual(stand.state.deposed, {})
+        tags = sorted(thing.tag[2] for thing in stand.state.objects.values())
+        self.assertEqual(sorted(tag[2] for tag in stand.world.things()), tags)
+        for name, value in found.outputs.items():
+            if name in stand.state.outputs:
+                self.assertTrue(agrees(value, stand.state.outputs[name]))
+        direct = needs(found.config, found.kinds)
+        for address in wanted:
+            thing = stand.state.objects[address]
+            self.assertTrue(set(thing.needs) >= {one for one in direct[address[:3]] if (one[1], one[2]) != ("hold", "zz")})
+
+    def test_nothing_is_left_to_do(self):
+        """Without readings of any sort, the plan behind an apply in which nothing failed has no deed."""
+        many = 0
+        for chance, stand, found in self.plans(3, range(300)):
+            if found.config.readings or any(address[1] == "read" for address in found.planned):
+                continue
+            one = stand.copy()
+            ends = one.do(found)
+            if set(ends.values()) <= {"done", "nothing"}:
+                try:
+                    again = one.plan(found.config)
+                except PlanError as error:
+                    self.assertEqual(type(error).__name__, "Misfit")
+                    continue
+                many += 1
+                self.assertEqual(again.deeds, {})
+                self.assertTrue(is_empty(again) or set(one.state.outputs) != set(again.outputs))
+        self.assertGreater(many, 100)
+
+    def test_each_step_changes_the_world_as_it_ends(self):
+        for chance, stand, found in self.plans(3, range(150)):
+            order = [step for step in stand.copy().do(found)]
+            before = None
+            for until in range(len(order) + 1):
+                one = stand.copy()
+                ends = one.do(found, until=until)
+                now = repr(one.world.things())
+                if before is not None:
+                    gone = [step for step in ends if ends[step] != "open" and before[1][step] == "open"]
+                    self.assertEqual(len(gone), 1)
+                    self.assertEqual(ends[gone[0]] == "done" and gone[0][0] != "read", now != before[0])
+                    self.assertTrue(all(ends[step] == before[1][step] for step in ends if step not in gone))
+                before = now, ends
+
+    def test_the_world_and_the_state_stay_together(self):
+        """Whatever fails: each object of the state stands, and each that stands is known, but those of others."""
+        for chance, stand, found in self.plans(5, range(200)):
+            known = [thing.tag for thing in (*stand.state.objects.values(), *stand.state.deposed.values())]
+            self.assertEqual(len(set(known)), len(known))
+            self.assertEqual(set(known), set(stand.world.things()))
+
+
+if __name__ == "__main__":
+    unittest.main()
