@@ -21,7 +21,7 @@ class Outcome(Valued):
 
 def apply(plan, state, world, *, order=None, fails=None, until=None):
     """Do the steps of the plan and return the Outcome; Stale, Ring or BadOrder ahead of any step."""
-    if state.serial != plan.serial:
+    if not equal(state.serial, plan.serial):
         raise Stale(state.serial)
     ahead, behind, found = ordered(plan)
     if order is None:

@@ -90,10 +90,7 @@ class Applying:
         if at in self._objects:
             # An object that still stands here is destroyed later: the replacement is a first one.
             self._depose(at)
-        kind = self._plan.kinds[at[1]]
-        kept = self._world.things()[tag][1]
-        given = {row[0]: wanted[row[0]] for row in kind.given if row[1] != "filled" or wanted[row[0]] is not None}
-        self._put(at, tag, {**kept, **given}, way == "behind")
+        self._put(at, tag, self._world.things()[tag][1], way == "behind")
         if way == "behind":
             return "failed"
         self._had[at] = True
@@ -116,6 +113,7 @@ class Applying:
             except (Gone, Taken):
                 return "failed"
             kept = self._world.things()[old.tag][1]
+            # What was not changed stays as it was told, which may be otherwise than the world keeps it.
             self._put(at, old.tag, {**kept, **wanted}, False)
         self._had[at] = True
         return "done" if others else "nothing"

@@ -3,6 +3,7 @@
 from planfirst.addresses import place
 from planfirst.ahead import ordered, steps_by
 from planfirst.applies import apply
+from planfirst.equality import equal
 from planfirst.errors import BadSteps, Stale
 from planfirst.graphs import reaches
 from planfirst.plans import next_plan
@@ -39,7 +40,7 @@ def lost(plan, state, world, done):
 
     Stale, Ring, BadSteps, and what the next plan raises.
     """
-    if state.serial != plan.serial:
+    if not equal(state.serial, plan.serial):
         raise Stale(state.serial)
     ahead, behind, found = ordered(plan)
     _refuse_gaps(_numbers_of(done, ahead), behind)

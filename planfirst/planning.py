@@ -84,9 +84,9 @@ class Planning:
         # In part it is taken only where nothing that is taken refers to it.
         if told or block.many is not None:
             self._known[address] = block_value(block, told)
-        for at in self._base.objects:
-            if at[:3] == address and self._taking.takes_instance(at) and at not in self.planned:
-                self._busy[address] = True
+        # A reading that asks for it is taken with the whole block, so all that is not wanted is destroyed then.
+        if any([at[:3] == address and at not in self.planned for at in self._base.objects]):
+            self._busy[address] = True
 
     def _go_to_instance(self, block, at, own):
         if block.ahead is not None:

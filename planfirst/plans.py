@@ -47,11 +47,11 @@ def plan(config, values, kinds, state, world, *, replace=(), targets=None, destr
     base, drift = refreshed(base, world)
     outputs = base.outputs
     if destroy:
-        deeds, reasons, planned = _clearing(targets, outline, base), {}, {}
+        deeds, reasons, planned = _clearing(targets, base), {}, {}
         if targets is None:
             outputs = {}
     else:
-        taking = targeted_with_needs(targets, outline, base)
+        taking = targeted_with_needs(targets, outline)
         planning = Planning(outline, values, kinds, base, world, replace, taking)
         planning.go_through()
         if targets is None:
@@ -67,7 +67,7 @@ def planning_of_all(config, values, kinds, state, world):
     """Return the planning of everything, before anything is gone through."""
     outline = _checked(config, values, kinds)
     base = refreshed(moved(state, config)[0], world)[0]
-    return Planning(outline, values, kinds, base, world, (), targeted_with_needs(None, outline, base))
+    return Planning(outline, values, kinds, base, world, (), targeted(None))
 
 
 def next_plan(old, state, world):
@@ -96,9 +96,9 @@ def _checked(config, values, kinds):
     return outline
 
 
-def _clearing(targets, outline, base):
+def _clearing(targets, base):
     """Return the deeds that destroy everything, or the targets and, again and again, what needed their blocks."""
-    taking = targeted(targets, outline, base)
+    taking = targeted(targets)
     needs_of = {at: base.objects[at].needs for at in base.objects}
     for at in base.deposed:
         needs_of[at] = base.deposed[at].needs

@@ -46,4 +46,4 @@ def _following(plan, address):
 
 def _busy_among(plan, blocks):
     """Return the sorted instances and readings with a deed that are of these blocks or are these readings."""
-    return sorted([at for at in plan.deeds if len(at) > 2 and at[:3] in blocks], key=place)
+    return sorted([at for at in plan.deeds if at[:3] in blocks], key=place)

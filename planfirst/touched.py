@@ -14,13 +14,10 @@ class Touched:
 
     def meet(self, known):
         """Note the open text by which this one is the known one, if there is one."""
-        many = len(self.fixed) - 1
-        free = len(known) - len("".join(self.fixed))
-        if free < 0 or free // many * many != free:
-            return
+        size = (len(known) - len("".join(self.fixed))) // (len(self.fixed) - 1)
         begin = len(self.fixed[0])
-        text = known[begin:begin + free // many]
-        if text.join(list(self.fixed)) == known:
+        text = known[begin:begin + size]
+        if size >= 0 and text.join(list(self.fixed)) == known:
             self.met[text] = True
 
 

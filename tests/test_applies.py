@@ -191,6 +191,12 @@ class Done(Case):
         self.assertEqual(set(one.state.deposed), {(at("x"), 1)})
         self.assertEqual(set(stand.do(found).values()), {"done"})
         self.assertEqual(stand.state.deposed, {})
+        # At its address: what is deposed elsewhere does not matter.
+        stand = Stand(blocks(net("x", say(1)), net("y")))
+        stand.depose(at("y"), 5)
+        stand.put(at("x"), needs=(block_at("y"),))
+        stand.do(stand.plan(blocks(net("x", say(2), first=True))), until=1)
+        self.assertEqual(set(stand.state.deposed), {(at("x"), 1), (at("y"), 5)})
 
     def test_destroy(self):
         stand = Stand(blocks(net("x"), net("y", LATER)))
@@ -586,6 +592,14 @@ class Outputs(Case):
         stand.apply(config)
         ends = stand.apply(config, targets=(at("a"),), destroy=True)
         self.assertEqual((set(ends), set(stand.state.objects)), ({destroy("a"), destroy("b")}, {at("c")}))
+
+
+    def test_targets_and_readings(self):
+        readings = (Reading("net", "r", {"a": of("a", "id")}), Reading("net", "s", {"a": of("c", "id")}))
+        config = blocks(net("a"), net("b", of("r", "size")), net("c"), readings=readings)
+        stand = Stand()
+        ends = stand.apply(config, targets=(block_at("b"),))
+        self.assertEqual(ends, {make("a"): "done", ("read", block_at("r")): "done", make("b"): "done"})
 
 
 class Serials(Case):

@@ -257,6 +257,11 @@ class Rows(Impacts):
                             (both(join(P, P, "#"), say("net"), number), ""), (both(say("#"), P, say(77)), None)):
             rows = ((None, ((X, "replace"),)),) if text is None else (((text,), ()), (None, ((X, "replace"),)))
             self.assertEqual(self.rows(stand, net("w"), net("x", value)), rows)
+        # Whichever of the two stands first.
+        stand = Stand(blocks(net("w"), net("x", say(0))))
+        for one, other in itertools.permutations((LATER, both(say("#"), P, number))):
+            found = self.rows(stand, net("w"), net("x", ("if", ("same", one, other), say(1), say(0))))
+            self.assertEqual(found, ((("net",), ((X, "replace"),)), (None, ())))
         value = ("size", both(P, say("net"), say(1)))
         self.assertEqual(self.rows(Stand(), net("x", value)), ((("#",), "Misfit"), (None, ((X, "make"),))))
         value = ("size", both(join("#", P), say("net"), say(1)))

@@ -435,6 +435,14 @@ class Orders(Case):
             self.assertIs(is_order(plan, (one, (thing, at("b")))), False)
             self.assertIs(is_order(plan, (one, ("make", (thing, "net", "b", None)))), thing == ())
 
+    def test_numbers(self):
+        stand = Stand(blocks(net("a")))
+        stand.depose(at("a"), 1)
+        plan = stand.plan(Config())
+        self.assertIs(is_order(plan, (("destroy", at("a"), 1),)), True)
+        for thing in (True, 1.0, 0, -1, "1", None, [], {}, (1,), odd.ALL):
+            self.assertIs(is_order(plan, (("destroy", at("a"), thing),)), False)
+
     def test_one_and_true(self):
         plan = Stand().plan(blocks(net("a", many=("count", say(2)))))
         self.assertIs(is_order(plan, (("make", at("a", 0)), ("make", at("a", 1)))), True)
@@ -465,6 +473,21 @@ class Marks(Case):
         self.assertEqual(first_marks(stand.plan(config)), (block_at("v"),))
         config = blocks(net("x", say(1), first=True), net("v", say(1), first=True), net("y", of("v", "f")))
         self.assertEqual(first_marks(stand.plan(config)), ())
+
+    def test_only_what_is_torn_is_marked(self):
+        # a would make v first too, but it is only changed.
+        stand = Stand(blocks(net("a", a=say(1)), net("v"), net("x", after=(("net", "v"),))))
+        config = blocks(net("x", say(1), first=True), net("v", say(1)), net("a", a=say(2), after=(("net", "v"),)))
+        self.assertEqual(first_marks(stand.plan(config)), (block_at("v"),))
+        # Nor is what is first already, or not written: nothing helps where u is not.
+        stand = Stand(blocks(net("u"), net("x", after=(("net", "u"),))))
+        self.assertIsNone(first_marks(stand.plan(blocks(net("x", say(1), first=True)))))
+
+    def test_sorted(self):
+        # What is destroyed comes behind what is replaced in a plan, but not here.
+        stand = Stand(blocks(net("a", many=("count", say(2))), net("b"), net("x", after=(("net", "a"), ("net", "b")))))
+        config = blocks(net("a", many=("count", say(1))), net("b", say(1)), net("x", say(1), first=True))
+        self.assertEqual(first_marks(stand.plan(config)), (block_at("a"), block_at("b")))
 
     def test_no_marks_help(self):
         stand = Stand(blocks(net("x"), net("y")))

@@ -46,6 +46,10 @@ class Checks(Case):
         self.refused(NoValue("a"), config, {"b": 1}, destroy=True)
         self.refused(NoValue("aa"), config, {"b": 1, "a": 1, "aa": 1}, targets=())
 
+    def test_values_of_no_param(self):
+        for thing in (5, None, True, ("p",), "P", ""):
+            self.refused(NoValue(thing), Config(), {thing: 1})
+
     def test_defaults_stand_where_none_is_passed(self):
         config = Config(params=(("p", 1), ("q", {"k": 2})), blocks=(net("x", param("p"), param("q")),))
         found = Stand().plan(config).planned[at("x")]
@@ -92,6 +96,9 @@ class Checks(Case):
         lacking = ("if", ("same", ("own", "key"), say("b")), say(None), say(1))
         keys = ("keys", say(("c", "b", "a")))
         self.refused(Lacking(at("a", "b", "must"), "one"), blocks(must("a", lacking, many=keys)))
+        for keys in (("c", "b", "a"), {"c": 1, "a": 1, "b": 2}):
+            config = blocks(must("a", ahead=say(False), many=("keys", say(keys))))
+            self.refused(Refused((at("a", "a", "must"),)), config)
 
     def test_in_the_order_of_needs_and_then_of_addresses(self):
         # "a" needs "z", so "b" comes first, then "z", then "a".
@@ -154,7 +161,8 @@ class Many(Case):
             self.raises(BadMany(block_at("a")), plan, config, {}, KINDS, empty(), World(KINDS))
 
     def test_keys(self):
-        for value in ((), ("b",), ("b", "a", ""), {}, {"a": 1}, {"b": None, "a": (1,)}, {str(n): 1 for n in range(20)}):
+        for value in ((), ("b",), ("b", "a", ""), {}, {"a": 1}, {"b": None, "a": (1,)}, {str(n): 1 for n in range(20)},
+                      tuple("tsrqponmlkjihgfedcba")):
             told = ("tuple", (("own", "key"), ("own", "value")))
             found = Stand().plan(blocks(net("a", told, many=("keys", say(value)))))
             items = value if isinstance(value, dict) else {key: key for key in value}
@@ -207,6 +215,15 @@ class Many(Case):
         self.assertEqual(Stand().plan(config).outputs, {
             "one": 0, "list": tuple(range(11)), "map": {"k": "k", "l": "l"}, "second": 1, "k": 6,
         })
+
+
+    def test_values_of_blocks_without_instances(self):
+        outputs = (("list", ("each", "net", "y", "a")), ("map", ("each", "net", "z", "a")))
+        config = blocks(net("x", ("size", ("each", "net", "y", "id")), many=("count", say(1))),
+                        net("y", many=("count", say(0))), net("z", many=("keys", say(()))), outputs=outputs)
+        self.assertEqual(Stand().plan(config).outputs, {"list": (), "map": {}})
+        stand = Stand(config)
+        self.assertEqual((stand.state.outputs, set(stand.state.objects)), ({"list": (), "map": {}}, {at("x", 0)}))
 
 
 class Deeds(Case):
@@ -625,6 +642,27 @@ class Outputs(Case):
         self.assertEqual(stand.plan(config).outputs, {"o": ("t!", tag, other)})
         self.assertEqual(stand.state.outputs, {"o": ("t!", tag, other)})
         self.assertTrue(is_empty(stand.plan(config)))
+
+    def test_names_of_parameters_stand_for_their_own(self):
+        # The p of the call is not the one of the configuration, and not what is passed for this.
+        inner = Config(params=(("p", 5), "q"), outputs=(("o", ("tuple", (param("p"), param("q")))),))
+        config = Config(params=("p",), calls=(Call("c", inner, {"q": param("p")}),), outputs=(("o", ("out", "c", "o")),))
+        self.assertEqual(Stand(values={"p": 1}).plan(config).outputs, {"o": (5, 1)})
+        # An argument is named by its parameter alone, not by a kind of its name.
+        inner = Config(params=("net",), blocks=(net("x", of("y", "a")), net("y")))
+        config = Config(calls=(Call("c", inner, {"net": WRONG}),))
+        self.assertEqual(len(Stand().plan(config).deeds), 2)
+
+    def test_arguments_that_name_several(self):
+        inner = Config(params=("p", "q", "r"), outputs=(("o", ("tuple", (param("r"), param("q"), param("p")))),))
+        middle = Config(params=("p", "q"), calls=(Call("c", inner, {
+            "p": ("tuple", (param("q"), param("p"))), "q": param("p"), "r": param("q")}),),
+            outputs=(("o", ("out", "c", "o")), ("q", param("q")), ("r", ("tuple", (("out", "c", "o"), param("q"))))))
+        call = Call("d", middle, {"p": say(1), "q": say(2)})
+        config = Config(calls=(call,), outputs=(("o", ("tuple", (("out", "d", "q"), ("out", "d", "r"),
+                                                                 ("out", "d", "o")))),))
+        told = (2, 1, (2, 1))
+        self.assertEqual(Stand().plan(config).outputs, {"o": (2, (told, 2), told)})
 
     def test_six_calls_deep(self):
         config = Config(params=("p",), blocks=(net("x", param("p")),), outputs=(("o", of("x", "f")),))

@@ -152,6 +152,15 @@ class Why(Case):
 
         self.assertEqual(why(Stand(config(1)).plan(config(2)), X), (X, at("y", 0)))
 
+    def test_of_several_reasons_the_least(self):
+        def config(number):
+            return blocks(net("x", of("z", "f"), replaced_by=(("net", "y"), ("net", "w", "f"), ("net", "v"))),
+                          *[net(name, say(number)) for name in "zyvw"])
+
+        found = Stand(config(1)).plan(config(2))
+        self.assertEqual(why(found, X), (X, at("v")))
+        self.assertEqual([addresses for _, addresses in causes(found, X)], [(at(name),) for name in "zywv"])
+
     def test_the_first_of_equal_ways_through_one_address(self):
         def config(number):
             return blocks(net("x", ("tuple", (of("d", "f"), of("c", "f")))), net("d", of("b", "f")),

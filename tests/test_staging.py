@@ -129,6 +129,12 @@ class Stages(Case):
                         readings=(reading,))
         self.assertEqual(self.told(config, stand), ((block_at("x"),), None))
 
+    def test_a_reading_is_no_target(self):
+        # It is put off and read on the way, by what needs it.
+        reading = Reading("hold", "r", {}, after=(("net", "x"),))
+        config = blocks(net("x"), net("w", of("r", "size", "hold")), net("y", many=later("x")), readings=(reading,))
+        self.assertEqual(self.told(config), ((block_at("w"), block_at("x")), None))
+
     def test_values_and_moves(self):
         config = Config(params=("p",), blocks=(net("x", param("p")), net("y", many=later("x"))),
                         moves=(Move(("net", "w"), ("net", "x")),))
