@@ -7,8 +7,10 @@ from planfirst.errors import PlanError
 from planfirst.layout import needs
 from planfirst.orders import ring, steps
 from planfirst.plans import is_empty
+from planfirst.settling import alike, settles
 from planfirst.values import agrees, is_known
-from stand import Case, Stand
+from stand import Case, Stand, block_at
+from test_orders import all_needed
 
 WORDS = ("make", "change", "destroy", "read")
 
@@ -105,6 +107,64 @@ class Whole(Case):
                 self.assertEqual(again.deeds, {})
                 self.assertTrue(is_empty(again) or set(one.state.outputs) != set(again.outputs))
         self.assertGreater(many, 100)
+
+    def test_targets_are_a_part_of_the_whole(self):
+        many = 0
+        for chance, stand, found in self.plans(4, range(200)):
+            needed = all_needed(found.config, found.kinds)
+            targets = tuple(chance.some([*found.planned, *stand.state.objects, *needed], 3))
+            targets = tuple(one for one in targets if one[:3] != block_at("zz", "hold"))
+            whole = {one for one in targets if len(one) == 3}
+            for one in targets:
+                whole |= needed.get(one[:3], set())
+            replace = tuple(one for one in found.reasons if ("asked",) in found.reasons[one])
+            part = stand.plan(found.config, targets=targets, replace=replace)
+
+            def taken(one):
+                one = one[0] if len(one) == 2 else one
+                return one in targets or one[:3] in whole
+
+            self.assertEqual(part.deeds, {one: word for one, word in found.deeds.items() if taken(one)})
+            self.assertEqual(part.planned, {one: told for one, told in found.planned.items() if taken(one)})
+            self.assertEqual(part.reasons, {one: told for one, told in found.reasons.items() if taken(one)})
+            self.assertEqual((part.base, part.outputs), (found.base, stand.state.outputs))
+            many += 0 < len(part.deeds) < len(found.deeds)
+            self.assertIsNone(ring(part))
+            before = stand.copy()
+            if set(before.do(part).values()) <= {"done", "nothing"}:
+                for one in found.base.objects:
+                    if not taken(one):
+                        self.assertEqual(before.state.objects[one], found.base.objects[one])
+        self.assertGreater(many, 100)
+
+    def test_settling(self):
+        told = {"settled": 0, "ring": 0, "fails": 0, "refused": 0}
+        for chance, stand, found in self.plans(2, range(150)):
+            end = settles(found.config, {}, stand.kinds, stand.state, stand.world)
+            told[end[0]] += 1
+            applied = end[1] + (end[2] if end[0] == "ring" else 0)
+            one = stand.copy()
+            pairs = [one.copy()]
+            for number in range(applied):
+                plan = one.plan(found.config)
+                self.assertNotEqual(plan.deeds, {})
+                failed = "failed" in one.do(plan).values()
+                self.assertEqual(failed, end == ("fails", number + 1))
+                pairs.append(one.copy())
+            like = [number for number, other in enumerate(pairs[:-1])
+                    if alike(other.state, other.world, one.state, one.world)]
+            if end[0] == "ring":
+                self.assertEqual(like, [end[1]])
+            elif end[0] == "settled":
+                self.assertEqual(one.plan(found.config).deeds, {})
+            elif end[0] == "refused":
+                self.raises_by_name(end[2], one, found.config)
+        self.assertTrue(all(told[word] > 2 for word in ("settled", "ring", "fails")), told)
+
+    def raises_by_name(self, name, stand, config):
+        with self.assertRaises(PlanError) as caught:
+            stand.do(stand.plan(config))
+        self.assertEqual(type(caught.exception).__name__, name)
 
     def test_each_step_changes_the_world_as_it_ends(self):
         for chance, stand, found in self.plans(3, range(150)):
