@@ -8,11 +8,10 @@ import odd
 from planfirst.applies import Outcome, apply
 from planfirst.configs import Block, Call, Config, Move, Reading
 from planfirst.errors import BadOrder, Ring, Stale
-from planfirst.orders import ring, rounds, steps
-from planfirst.plans import is_empty, plan
-from planfirst.states import Object, State, empty, taint
-from planfirst.worlds import World
-from stand import KINDS, Case, Stand, at, block_at, blocks, hold, net, of, param, say
+from planfirst.orders import ring, steps
+from planfirst.plans import is_empty
+from planfirst.states import Object, State, empty
+from stand import Case, Stand, at, block_at, blocks, hold, net, of, param, say
 
 LATER = of("x", "id")
 # Come to be wrong, and False, as soon as the id of x is known.
@@ -140,7 +139,8 @@ class Done(Case):
         config = blocks(net("x", say(2)), *config.blocks[1:])
         ends = stand.apply(config)
         # z needs the mark of y, which stays as it is.
-        self.assertEqual(ends, {destroy("x"): "done", make("x"): "done", change("y"): "nothing", change("z"): "nothing"})
+        self.assertEqual(ends, {
+            destroy("x"): "done", make("x"): "done", change("y"): "nothing", change("z"): "nothing"})
         self.assertEqual(stand.state.objects[at("y")], before)
 
     def test_only_what_is_otherwise_is_changed(self):

@@ -5,11 +5,10 @@ import unittest
 
 import odd
 from chance import Nets
-from planfirst.configs import Block, Call, Config, Reading
+from planfirst.configs import Call, Config, Reading
 from planfirst.errors import Ring
 from planfirst.layout import needs
 from planfirst.orders import first_marks, is_order, longest, ring, rounds, rows, steps
-from planfirst.states import taint
 from stand import Case, Stand, at, block_at, blocks, net, of, say
 
 

@@ -646,7 +646,8 @@ class Outputs(Case):
     def test_names_of_parameters_stand_for_their_own(self):
         # The p of the call is not the one of the configuration, and not what is passed for this.
         inner = Config(params=(("p", 5), "q"), outputs=(("o", ("tuple", (param("p"), param("q")))),))
-        config = Config(params=("p",), calls=(Call("c", inner, {"q": param("p")}),), outputs=(("o", ("out", "c", "o")),))
+        call = Call("c", inner, {"q": param("p")})
+        config = Config(params=("p",), calls=(call,), outputs=(("o", ("out", "c", "o")),))
         self.assertEqual(Stand(values={"p": 1}).plan(config).outputs, {"o": (5, 1)})
         # An argument is named by its parameter alone, not by a kind of its name.
         inner = Config(params=("net",), blocks=(net("x", of("y", "a")), net("y")))

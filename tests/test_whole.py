@@ -87,7 +87,8 @@ class Whole(Case):
         direct = needs(found.config, found.kinds)
         for address in wanted:
             thing = stand.state.objects[address]
-            self.assertTrue(set(thing.needs) >= {one for one in direct[address[:3]] if (one[1], one[2]) != ("hold", "zz")})
+            blocks = {one for one in direct[address[:3]] if one != block_at("zz", "hold")}
+            self.assertTrue(set(thing.needs) >= blocks)
 
     def test_nothing_is_left_to_do(self):
         """Without readings of any sort, the plan behind an apply in which nothing failed has no deed."""
