@@ -8,6 +8,7 @@ class PlanError(ValueError):
 
     def __init__(self, *told):
         self.told = told
+        self.class_name = self.__class__.__name__
 
     def __eq__(self, other):
         return type(self) is type(other) and equal(self.told, other.told)

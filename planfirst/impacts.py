@@ -29,7 +29,7 @@ def _deeds(config, values, kinds, state, world):
     try:
         return _sorted_pairs(plan(config, values, kinds, state, world).deeds)
     except PlanError as error:
-        return type(error).__name__
+        return error.class_name
 
 
 def _deeds_of_all_others(config, values, kinds, state, world):
@@ -40,7 +40,7 @@ def _deeds_of_all_others(config, values, kinds, state, world):
     except NotGeneric:
         raise
     except PlanError as error:
-        return type(error).__name__
+        return error.class_name
 
 
 def _gone_through(planning):

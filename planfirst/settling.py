@@ -31,7 +31,7 @@ def settles(config, values, kinds, state, world):
                 return ("settled", applied)
             outcome = apply(found, state, its_world)
         except PlanError as error:
-            return ("refused", applied, type(error).__name__)
+            return ("refused", applied, error.class_name)
         if "failed" in list(outcome.ends.values()):
             return ("fails", applied + 1)
         state = outcome.state

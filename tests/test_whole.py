@@ -3,13 +3,18 @@
 import unittest
 
 from chance import Things
+from planfirst.configs import Call, Config
 from planfirst.errors import PlanError
+from planfirst.failures import left
+from planfirst.impacts import impact
 from planfirst.layout import needs
-from planfirst.orders import ring, steps
+from planfirst.orders import longest, ring, rounds, steps
 from planfirst.plans import is_empty
+from planfirst.reasons import why
 from planfirst.settling import alike, settles
+from planfirst.staging import stages
 from planfirst.values import agrees, is_known
-from stand import Case, Stand, block_at
+from stand import Case, Stand, at, block_at, blocks, net, of, param, say
 from test_orders import all_needed
 
 WORDS = ("make", "change", "destroy", "read")
@@ -188,6 +193,48 @@ class Whole(Case):
             known = [thing.tag for thing in (*stand.state.objects.values(), *stand.state.deposed.values())]
             self.assertEqual(len(set(known)), len(known))
             self.assertEqual(set(known), set(stand.world.things()))
+
+
+class Long(Case):
+    """Ways as long as the document lets them be."""
+
+    def test_expressions_within_one_another(self):
+        joined, chosen = param("p"), say("t")
+        for _ in range(201):
+            joined, chosen = ("join", (joined,)), ("if", say(True), chosen, say("u"))
+        config = Config(params=("p",), blocks=(net("x", joined, chosen), net("y", many=("keys", ("tuple", (chosen,))))),
+                        outputs=(("o", joined),))
+        stand = Stand(config, values={"p": "q"})
+        self.assertEqual((stand.state.outputs, set(stand.state.objects)), ({"o": "q"}, {at("x"), at("y", "t")}))
+        found = impact(config, {}, stand.kinds, stand.state, stand.world, "p")
+        self.assertEqual(found, ((("q",), ()), (None, ((at("x"), "replace"),))))
+        self.assertEqual(settles(config, {"p": "r"}, stand.kinds, stand.state, stand.world), ("settled", 1))
+        self.assertEqual(stages(config, {"p": "r"}, stand.kinds, stand.state, stand.world), (None,))
+
+    def test_blocks_one_behind_the_other(self):
+        names = ["b" + chr(97 + number // 26) + chr(97 + number % 26) for number in range(201)]
+
+        def config(value):
+            return blocks(*[net(name, of(names[number - 1], "f") if number else say(value), first=number == 200)
+                            for number, name in enumerate(names)])
+
+        stand = Stand(config(1))
+        found = stand.plan(config(2))
+        self.assertEqual((len(rounds(found)), len(longest(found)), ring(found)), (402, 402, None))
+        self.assertEqual(why(found, at(names[-1])), tuple(at(name) for name in names[::-1]))
+        self.assertEqual(len(left(found, (("make", at(names[100])),))), 301)
+        self.assertEqual(set(stand.do(found).values()), {"done"})
+        self.assertTrue(is_empty(stand.plan(config(2))))
+
+    def test_a_hundred_blocks_in_calls(self):
+        inner = Config(params=("p",), blocks=(net("x", param("p")),), outputs=(("o", of("x", "f")),))
+        names = ["c" + chr(97 + number // 26) + chr(97 + number % 26) for number in range(100)]
+        calls = [Call(name, inner, {"p": ("out", names[number - 1], "o") if number else say(1)})
+                 for number, name in enumerate(names)]
+        stand = Stand()
+        stand.apply(Config(calls=tuple(calls[::-1]), outputs=(("o", ("out", names[-1], "o")),)))
+        self.assertEqual((stand.state.outputs, len(stand.state.objects)), ({"o": 1}, 100))
+        self.assertEqual(len(stand.state.objects[at("x", path=(names[-1],))].needs), 99)
 
 
 if __name__ == "__main__":
